@@ -1,0 +1,78 @@
+// Package ward: what is asked of a map of points, with a proof that it is all and nothing else: see DOC.md.
+package ward
+
+import (
+	"slices"
+
+	"ward/api"
+	"ward/digest"
+	"ward/plane"
+	"ward/tree"
+)
+
+// Digest of a text (P3).
+func Digest(text string) [32]byte { return digest.Of(text) }
+
+// Map: points.
+type Map struct {
+	points []api.Point // in order
+}
+
+// New makes a map without points.
+func New() *Map { return &Map{} }
+
+// Insert puts a point into the map (P3).
+func (m *Map) Insert(p api.Point) api.Errno {
+	switch {
+	case !plane.IsID(p.ID):
+		return api.ErrID
+	case !plane.IsCoord(p.X) || !plane.IsCoord(p.Y):
+		return api.ErrRange
+	case m.find(p.ID) >= 0:
+		return api.ErrTaken
+	case len(m.points) >= api.MaxPoints:
+		return api.ErrLimit
+	}
+	at, _ := slices.BinarySearchFunc(m.points, p, plane.Compare)
+	m.points = slices.Insert(m.points, at, p)
+	return api.OK
+}
+
+// Delete takes a point out of it (P3).
+func (m *Map) Delete(id int) api.Errno {
+	at := m.find(id)
+	if at < 0 {
+		return api.ErrUnknown
+	}
+	m.points = slices.Delete(m.points, at, at+1)
+	return api.OK
+}
+
+// find tells where the point of that id stands, or -1.
+func (m *Map) find(id int) int {
+	return slices.IndexFunc(m.points, func(p api.Point) bool { return p.ID == id })
+}
+
+// Points tells all, in order (P3).
+func (m *Map) Points() []api.Point {
+	all := make([]api.Point, len(m.points))
+	copy(all, m.points)
+	return all
+}
+
+// Commitment tells that to the points (P3).
+func (m *Map) Commitment() api.Commitment {
+	root := tree.Build(m.points)
+	return api.Commitment{Root: root.Digest, Count: root.Count}
+}
+
+// Answer answers a query (P4).
+func (m *Map) Answer(q api.Query) ([]api.Point, api.Errno) { return nil, api.OK }
+
+// Prove gives the proof of an answer (P4).
+func (m *Map) Prove(q api.Query) (string, api.Errno) { return "", api.OK }
+
+// Verify takes the answer out of a proof, or refuses it (P5).
+func Verify(c api.Commitment, q api.Query, proof string) ([]api.Point, api.Errno) {
+	return nil, api.OK
+}
