@@ -1,4 +1,4 @@
-// Package plane: points, their order, and boxes.
+// Package plane: points, their order, boxes and distances.
 package plane
 
 import (
@@ -40,4 +40,23 @@ func (b Box) Join(other Box) Box {
 		MaxX: max(b.MaxX, other.MaxX),
 		MaxY: max(b.MaxY, other.MaxY),
 	}
+}
+
+// MayBe: its least are not above its greatest, and all of them are coordinates.
+func (b Box) MayBe() bool {
+	return IsCoord(b.MinX) && IsCoord(b.MinY) && IsCoord(b.MaxX) && IsCoord(b.MaxY) &&
+		b.MinX <= b.MaxX && b.MinY <= b.MaxY
+}
+
+// Meets: the boxes have a place in common.
+func (b Box) Meets(other Box) bool {
+	return b.MinX <= other.MaxX && other.MinX <= b.MaxX &&
+		b.MinY <= other.MaxY && other.MinY <= b.MaxY
+}
+
+// Distance is that of the box's nearest place from the place x, y. It may be too great for 32 bits.
+func (b Box) Distance(x, y int) int64 {
+	across := int64(max(b.MinX-x, 0, x-b.MaxX))
+	along := int64(max(b.MinY-y, 0, y-b.MaxY))
+	return across*across + along*along
 }

@@ -67,3 +67,90 @@ func TestBoxes(t *testing.T) {
 		t.Errorf("P3: %v and %v join to %v", other, one, got)
 	}
 }
+
+func TestBoxesThatMayBe(t *testing.T) {
+	const most = api.MaxCoord
+	for b, want := range map[Box]bool{
+		{0, 0, 0, 0}:                     true,
+		{-1, -2, 3, 4}:                   true,
+		{-most, -most, most, most}:       true,
+		{most, most, most, most}:         true,
+		{-most, -most, -most, -most}:     true,
+		{1, 0, 0, 0}:                     false,
+		{0, 1, 0, 0}:                     false,
+		{most, 0, -most, 0}:              false,
+		{-most - 1, 0, 0, 0}:             false,
+		{0, -most - 1, 0, 0}:             false,
+		{0, 0, most + 1, 0}:              false,
+		{0, 0, 0, most + 1}:              false,
+		{most + 1, 0, most + 1, 0}:       false,
+		{0, most + 1, 0, most + 1}:       false,
+		{-most - 1, 0, -most - 1, 0}:     false,
+		{0, -most - 1, 0, -most - 1}:     false,
+		{math.MinInt, 0, 0, 0}:           false,
+		{0, 0, 0, math.MaxInt}:           false,
+		{1 << 32, 0, 1 << 32, 0}:         false,
+		{0, -1 << 32, 0, 0}:              false,
+		{math.MaxInt, 0, math.MinInt, 0}: false,
+	} {
+		if b.MayBe() != want {
+			t.Errorf("P4: %v.MayBe() = %v", b, !want)
+		}
+	}
+}
+
+func TestBoxesThatMeet(t *testing.T) {
+	// against every place of a small field
+	var all []Box
+	for minX := range 4 {
+		for minY := range 4 {
+			for maxX := minX; maxX < 4; maxX++ {
+				for maxY := minY; maxY < 4; maxY++ {
+					all = append(all, Box{minX - 2, minY - 2, maxX - 2, maxY - 2})
+				}
+			}
+		}
+	}
+	has := func(b Box, x, y int) bool { return x >= b.MinX && x <= b.MaxX && y >= b.MinY && y <= b.MaxY }
+	for _, a := range all {
+		for _, b := range all {
+			want := false
+			for place := range 16 {
+				x, y := place%4-2, place/4-2
+				want = want || has(a, x, y) && has(b, x, y)
+			}
+			if a.Meets(b) != want {
+				t.Fatalf("P4: %v.Meets(%v) = %v", a, b, !want)
+			}
+		}
+	}
+}
+
+func TestDistances(t *testing.T) {
+	const most = api.MaxCoord
+	for _, c := range []struct {
+		b    Box
+		x, y int
+		want int64
+	}{
+		{Box{5, 5, 5, 5}, 6, 6, 2},
+		{Box{9, 0, 9, 0}, 6, 6, 45},
+		{Box{20, 20, 20, 20}, 6, 6, 392},
+		{Box{0, -5, 9, 5}, 4, 4, 0},
+		{Box{0, -5, 9, 5}, 0, -5, 0},
+		{Box{0, -5, 9, 5}, 9, 5, 0},
+		{Box{0, -5, 9, 5}, -3, 0, 9},
+		{Box{0, -5, 9, 5}, 13, 0, 16},
+		{Box{0, -5, 9, 5}, 4, 7, 4},
+		{Box{0, -5, 9, 5}, 4, -10, 25},
+		{Box{0, -5, 9, 5}, -3, -9, 25},
+		{Box{0, -5, 9, 5}, 10, 7, 5},
+		{Box{most, most, most, most}, -most, -most, 8000000000000},
+		{Box{-most, -most, -most, -most}, most, most, 8000000000000},
+		{Box{-most, -most, most, most}, most, -most, 0},
+	} {
+		if got := c.b.Distance(c.x, c.y); got != c.want {
+			t.Errorf("P4: the distance of %v from %d, %d = %d, want %d", c.b, c.x, c.y, got, c.want)
+		}
+	}
+}

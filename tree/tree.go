@@ -1,18 +1,13 @@
-// Package tree: the leaves and nodes over points in order, and their texts.
+// Package tree: the leaves and nodes over points in order, their texts and proofs.
 package tree
 
 import (
 	"ward/api"
 	"ward/digest"
-	"ward/number"
 	"ward/plane"
 )
 
-const (
-	groupSize = 4
-	leafMark  = 1
-	nodeMark  = 2
-)
+const groupSize = 4
 
 // Node: a leaf, which has points, or a node, which has children.
 type Node struct {
@@ -79,32 +74,4 @@ func nodeOf(children []Node) Node {
 	}
 	node.Digest = digest.Of(nodeText(children))
 	return node
-}
-
-// leafText: the text of a leaf of these points.
-func leafText(points []api.Point) string {
-	text := []byte{leafMark, byte(len(points))}
-	for _, p := range points {
-		text = appendNumbers(text, p.ID, p.X, p.Y)
-	}
-	return string(text)
-}
-
-// nodeText: the text of a node of these children.
-func nodeText(children []Node) string {
-	text := []byte{nodeMark, byte(len(children))}
-	for _, child := range children {
-		box := child.Box
-		text = appendNumbers(text, box.MinX, box.MinY, box.MaxX, box.MaxY, child.Count)
-		text = append(text, child.Digest[:]...)
-	}
-	return string(text)
-}
-
-// appendNumbers: the wrap-round to 32 bits makes numbers below 0 what a text has for them.
-func appendNumbers(text []byte, numbers ...int) []byte {
-	for _, n := range numbers {
-		text = number.Append(text, uint32(n))
-	}
-	return text
 }

@@ -139,3 +139,48 @@ func TestDepths(t *testing.T) {
 		}
 	}
 }
+
+func TestProofOfALeaf(t *testing.T) {
+	never := func(b plane.Box) bool {
+		t.Errorf("P4: a root was asked for as a child: %v", b)
+		return false
+	}
+	for n := range 5 {
+		if got, want := Proof(Build(inLine(n)), never), leafText(inLine(n)); got != want {
+			t.Errorf("P4: the proof of %d points is %q, want %q", n, got, want)
+		}
+	}
+}
+
+func TestProofOfANode(t *testing.T) {
+	points := inLine(17)
+	root := Build(points)
+	left, right := root.Children[0], root.Children[1]
+	head := func(n Node) string { return string(appendChild(nil, n)) }
+	leaves := func(shownLeaf int) string {
+		text := "\x02\x04"
+		for i, leaf := range left.Children {
+			text += head(leaf)
+			if i == shownLeaf {
+				text += "\x01" + leafText(points[4*i:4*i+4])
+			} else {
+				text += "\x00"
+			}
+		}
+		return text
+	}
+	for _, c := range []struct {
+		what string
+		show func(plane.Box) bool
+		want string
+	}{
+		{"none", func(plane.Box) bool { return false }, "\x02\x02" + head(left) + "\x00" + head(right) + "\x00"},
+		{"the left without its leaves", func(b plane.Box) bool { return b == left.Box }, "\x02\x02" + head(left) + "\x01" + leaves(-1) + head(right) + "\x00"},
+		{"the third leaf", func(b plane.Box) bool { return b == left.Box || b == left.Children[2].Box }, "\x02\x02" + head(left) + "\x01" + leaves(2) + head(right) + "\x00"},
+		{"what is below the right", func(b plane.Box) bool { return b == right.Box }, "\x02\x02" + head(left) + "\x00" + head(right) + "\x01" + "\x02\x01" + head(right.Children[0]) + "\x01" + leafText(points[16:])},
+	} {
+		if got := Proof(root, c.show); got != c.want {
+			t.Errorf("P4: the proof that shows %s is %q, want %q", c.what, got, c.want)
+		}
+	}
+}

@@ -7,6 +7,7 @@ import (
 	"ward/api"
 	"ward/digest"
 	"ward/plane"
+	"ward/query"
 	"ward/tree"
 )
 
@@ -67,10 +68,23 @@ func (m *Map) Commitment() api.Commitment {
 }
 
 // Answer answers a query (P4).
-func (m *Map) Answer(q api.Query) ([]api.Point, api.Errno) { return nil, api.OK }
+func (m *Map) Answer(q api.Query) ([]api.Point, api.Errno) {
+	if !query.MayBe(q) {
+		return nil, api.ErrQuery
+	}
+	return query.Answer(tree.Build(m.points), q), api.OK
+}
 
 // Prove gives the proof of an answer (P4).
-func (m *Map) Prove(q api.Query) (string, api.Errno) { return "", api.OK }
+func (m *Map) Prove(q api.Query) (string, api.Errno) {
+	if !query.MayBe(q) {
+		return "", api.ErrQuery
+	}
+	root := tree.Build(m.points)
+	answer := query.Answer(root, q)
+	mustShow := func(box plane.Box) bool { return query.MustShow(q, answer, box) }
+	return tree.Proof(root, mustShow), api.OK
+}
 
 // Verify takes the answer out of a proof, or refuses it (P5).
 func Verify(c api.Commitment, q api.Query, proof string) ([]api.Point, api.Errno) {
