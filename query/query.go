@@ -2,6 +2,8 @@
 package query
 
 import (
+	"slices"
+
 	"ward/api"
 	"ward/plane"
 	"ward/tree"
@@ -18,12 +20,15 @@ func MayBe(q api.Query) bool {
 	return false
 }
 
-// Answer is that of the points below the root, to a query that may be. The list is new.
+// Answer is that of the points that are shown below the root, to a query that may be. The list is new.
 func Answer(root tree.Node, q api.Query) []api.Point {
-	if q.Kind == api.Window {
-		return appendWithin(nil, root, windowOf(q))
+	if q.Kind == api.Near {
+		return nearest(root, q)
 	}
-	return nearest(root, q)
+	answer := appendWithin(nil, root, windowOf(q))
+	// The leaves of a proof may have their points in whatever order.
+	slices.SortFunc(answer, plane.Compare)
+	return answer
 }
 
 // MustShow: a child of that box must be shown to a query that has that answer.
@@ -36,6 +41,20 @@ func MustShow(q api.Query, answer []api.Point, box plane.Box) bool {
 	}
 	last := plane.BoxOf(answer[len(answer)-1])
 	return box.Distance(q.X, q.Y) <= last.Distance(q.X, q.Y)
+}
+
+// LacksNone: every child that must be shown is.
+func LacksNone(root tree.Node, q api.Query, answer []api.Point) bool {
+	return tree.Every(root, func(child tree.Node) bool {
+		return child.IsShown() || !MustShow(q, answer, child.Box)
+	})
+}
+
+// WastesNone: every child that is shown must be.
+func WastesNone(root tree.Node, q api.Query, answer []api.Point) bool {
+	return tree.Every(root, func(child tree.Node) bool {
+		return !child.IsShown() || MustShow(q, answer, child.Box)
+	})
 }
 
 // windowOf is the box of a Window.

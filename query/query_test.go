@@ -160,3 +160,49 @@ func TestAnswersShareNothingWithTheTree(t *testing.T) {
 		t.Errorf("P2: an answer shares memory with the points: %v", points)
 	}
 }
+
+func TestWhatIsLackedAndWasted(t *testing.T) {
+	points := []api.Point{{ID: 1}, {ID: 2, X: 1}, {ID: 3, X: 2}, {ID: 4, X: 3}, {ID: 5, X: 50}, {ID: 6, X: 51}, {ID: 7, X: 52}, {ID: 8, X: 53}, {ID: 9, X: 100}}
+	for _, c := range []struct {
+		q       api.Query
+		hidden  []int
+		lacks   bool
+		wastes  bool
+		answers int
+	}{
+		{window(0, 0, 9, 9), []int{1, 2}, false, false, 4},
+		{window(0, 0, 9, 9), []int{2}, false, true, 4},
+		{window(0, 0, 9, 9), nil, false, true, 4},
+		{window(0, 0, 9, 9), []int{0, 1, 2}, true, false, 0},
+		{window(0, 0, 9, 9), []int{0}, true, true, 0},
+		{window(0, 5, 9, 9), []int{0, 1, 2}, false, false, 0},
+		{near(0, 0, 4), []int{1, 2}, false, false, 4},
+		{near(0, 0, 5), []int{1, 2}, true, false, 4},
+		{near(0, 0, 5), []int{2}, false, false, 5},
+		{near(0, 0, 5), []int{1}, true, false, 5},
+		{near(0, 0, 9), nil, false, false, 9},
+		{near(0, 0, 8), nil, false, true, 8},
+		{near(100, 0, 1), []int{0, 1}, false, false, 1},
+		{near(100, 0, 1), []int{0, 2}, true, false, 1},
+	} {
+		root := tree.Build(points)
+		for _, i := range c.hidden {
+			root.Children[i].Points = nil
+		}
+		answer := Answer(root, c.q)
+		if len(answer) != c.answers || LacksNone(root, c.q, answer) == c.lacks || WastesNone(root, c.q, answer) == c.wastes {
+			t.Errorf("P5: %+v, with %v hidden: %v, lacks none: %v, wastes none: %v", c.q, c.hidden, answer, LacksNone(root, c.q, answer), WastesNone(root, c.q, answer))
+		}
+	}
+}
+
+func TestWindowsAreAnsweredInOrder(t *testing.T) {
+	root := tree.Node{Children: []tree.Node{
+		{Points: []api.Point{{ID: 3, X: 9}, {ID: 2, X: 4, Y: 1}}, Box: plane.Box{MinX: 4, MaxX: 9, MaxY: 1}},
+		{Points: []api.Point{{ID: 9, X: 4}, {ID: 1, X: 4, Y: 1}, {ID: 4, X: -1}}, Box: plane.Box{MinX: -1, MaxX: 4, MaxY: 1}},
+	}}
+	want := []api.Point{{ID: 4, X: -1}, {ID: 9, X: 4}, {ID: 1, X: 4, Y: 1}, {ID: 2, X: 4, Y: 1}, {ID: 3, X: 9}}
+	if got := Answer(root, window(-9, -9, 9, 9)); !slices.Equal(got, want) {
+		t.Errorf("P5: the points of a window are not in order: %v", got)
+	}
+}

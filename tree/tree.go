@@ -1,4 +1,4 @@
-// Package tree: the leaves and nodes over points in order, their texts and proofs.
+// Package tree: the leaves and nodes over points in order, their texts and proofs, and the reading of these.
 package tree
 
 import (
@@ -9,7 +9,7 @@ import (
 
 const groupSize = 4
 
-// Node: a leaf, which has points, or a node, which has children.
+// Node: a leaf, which has points, or a node, which has children; or, read out of a proof, a child that is hidden, which has neither.
 type Node struct {
 	Points   []api.Point
 	Children []Node

@@ -12,6 +12,9 @@ import (
 
 const most = api.MaxCoord
 
+// everywhere: a window of all places.
+var everywhere = window(-most, -most, most, most)
+
 func window(minX, minY, maxX, maxY int) api.Query {
 	return api.Query{Kind: api.Window, MinX: minX, MinY: minY, MaxX: maxX, MaxY: maxY}
 }
@@ -348,7 +351,6 @@ func TestAnswersHangOnThePointsAlone(t *testing.T) {
 }
 
 func TestAnswersAreNewMemory(t *testing.T) {
-	everywhere := window(-most, -most, most, most)
 	for _, n := range []int{0, 1, 3, 4, 5, 16, 17, 149, 150} {
 		points := scattered(n, 13)
 		m := filled(t, points)

@@ -63,7 +63,10 @@ func (m *Map) Points() []api.Point {
 
 // Commitment tells that to the points (P3).
 func (m *Map) Commitment() api.Commitment {
-	root := tree.Build(m.points)
+	return commitmentTo(tree.Build(m.points))
+}
+
+func commitmentTo(root tree.Node) api.Commitment {
 	return api.Commitment{Root: root.Digest, Count: root.Count}
 }
 
@@ -86,7 +89,26 @@ func (m *Map) Prove(q api.Query) (string, api.Errno) {
 	return tree.Proof(root, mustShow), api.OK
 }
 
-// Verify takes the answer out of a proof, or refuses it (P5).
+// Verify takes the answer out of a proof, or refuses it (P5). Each error is looked for in the whole proof ahead of the next, so that the one named first is told, wherever in the text it stands.
 func Verify(c api.Commitment, q api.Query, proof string) ([]api.Point, api.Errno) {
-	return nil, api.OK
+	if !query.MayBe(q) {
+		return nil, api.ErrQuery
+	}
+	root, ok := tree.Read(proof)
+	switch {
+	case !ok:
+		return nil, api.ErrForm
+	case !tree.BoxesHold(root):
+		return nil, api.ErrBox
+	case !tree.DigestsHold(root) || commitmentTo(root) != c:
+		return nil, api.ErrRoot
+	}
+	answer := query.Answer(root, q)
+	switch {
+	case !query.LacksNone(root, q, answer):
+		return nil, api.ErrHidden
+	case !query.WastesNone(root, q, answer):
+		return nil, api.ErrWaste
+	}
+	return answer, api.OK
 }
